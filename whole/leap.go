@@ -19,7 +19,7 @@ const (
 
 // leap is the way from x and y to two later numbers of the algorithm, which are
 // factors[0][0] * x - factors[0][1] * y and factors[1][1] * y - factors[1][0] * x,
-// or, if it is odd, the negatives of these. None of the two is negative.
+// or, if it is odd, the negatives of these. Neither is negative.
 type leap struct {
 	factors [2][2]uint64
 	odd     bool
